@@ -1,0 +1,1 @@
+"""Worlds of square cells that live by counting their neighbours."""
