@@ -1,6 +1,7 @@
 """What the tests share: a careful way to ask, samples, and a slow model to hold answers against."""
 
 import copy
+import fractions
 import itertools
 import unittest
 
@@ -12,7 +13,7 @@ FAR = 10 ** 39 + 7
 
 # Things of many sorts, none of which is a whole number, a list or a tuple.
 ODD_THINGS = (None, True, False, "", "4", "23", b"", b"\x03", {}, {3: 1}, set(), {3}, frozenset({3}),
-              range(3), object(), len, int)
+              range(3), object(), len, int, fractions.Fraction(4))
 
 MODEL_OFFSETS = {
     4: [(0, -1), (-1, 0), (1, 0), (0, 1)],
