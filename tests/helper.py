@@ -6,6 +6,7 @@ import itertools
 import unittest
 
 from cellships.errors import CellError
+from cellships.planes import next_turn
 
 KINDS = (4, 6, 8)
 MOST = 10 ** 60 - 1
@@ -20,6 +21,22 @@ MODEL_OFFSETS = {
     6: [(0, -1), (-1, 0), (1, 0), (0, 1), (-1, -1), (1, 1)],
     8: [(dx, dy) for dx in (-1, 0, 1) for dy in (-1, 0, 1) if (dx, dy) != (0, 0)],
 }
+
+# Of anything that is no ring's size.
+NO_RING_SIZES = ODD_THINGS + (
+    0, 3, 40, (), (3,), (5, 5, 5), (40, 40, 40), [5, 5], [], [3], (2, 5), (5, 2), (41, 5), (5, 41), (2, 41),
+    (0, 5), (5, 0), (-3, 5), (5, -3), (-5, -5), (1, 1), (2, 2), (41, 41), (FAR, 5), (5, FAR), (MOST, -MOST),
+    (True, 5), (5, True), (False, 5), (5, False), (True, True), ("5", 5), (5, "5"), "55", "5,5", b"\x05\x05",
+    (None, 5), (5, None), (None, None), ([5], 5), (5, [5]), ((5, 5),), ((5, 5), 5), (5, (5,)), {5: 5, 6: 6},
+    {5, 6}, [(5, 5)], (5, {}), (set(), 5), (fractions.Fraction(5), 5), (5, fractions.Fraction(5)))
+
+# Of anything that is no size of a box in which things are sought.
+NO_BOX_SIZES = ODD_THINGS + (
+    0, 1, 9, (), (3,), (9,), (1, 1, 1), (3, 3, 1), [3, 3], [1, 1], [], (0, 0), (0, 1), (1, 0), (0, 9), (-1, -1),
+    (-3, -3), (-1, 5), (5, -1), (2, 5), (5, 2), (3, 4), (4, 3), (1, 10), (10, 1), (4, 4), (9, 9), (FAR, 1),
+    (1, FAR), (FAR, 0), (0, -FAR), (MOST, MOST), (-MOST, -MOST), (True, 1), (1, True), (True, True), (False, 3),
+    (3, False), ("3", 3), (3, "3"), "33", b"\x03\x03", (None, 3), (3, None), ([3], 3), (3, (3,)), ((3, 3),),
+    ((3, 3), 1), {3: 3, 2: 2}, {2, 3}, (3, {}), (set(), 3), (fractions.Fraction(3), 3), (3, fractions.Fraction(3)))
 
 GLIDER = [(0, 2), (1, 0), (1, 2), (2, 1), (2, 2)]
 BLINKER = [(0, 1), (1, 1), (2, 1)]
@@ -75,6 +92,16 @@ def model_turnings(kind):
             if model_turned(around, turning) == around]
 
 
+# Reckoned once, as they are gone through by trying.
+MODEL_TURNINGS = {kind: model_turnings(kind) for kind in KINDS}
+
+
+def model_form(kind, cells):
+    """The least of all turned pictures laid at nought."""
+    faces = [model_turned(cells, turning) for turning in MODEL_TURNINGS[kind]]
+    return min(model_moved(face, (-min(x for x, y in face), -min(y for x, y in face))) for face in faces)
+
+
 def model_moved(cells, move):
     return [(x + move[0], y + move[1]) for x, y in cells]
 
@@ -100,6 +127,21 @@ def model_after(rule, cells, many):
     return cells
 
 
+def model_turns(rule, cells, many):
+    """The turns 0 to many, as a list."""
+    rows = [list(cells)]
+    for turn in range(many):
+        rows.append(model_next(rule, rows[-1]))
+    return rows
+
+
+def model_move(one, other):
+    """The move by which a picture with cells becomes another one, or None."""
+    moves = [(other[0][0] - x, other[0][1] - y) for x, y in one] if other else []
+    found = [move for move in moves if model_moved(one, move) == other]
+    return found[0] if found else None
+
+
 def model_ring_next(rule, size, cells):
     kind, born, stay = rule
     living = []
@@ -109,6 +151,24 @@ def model_ring_next(rule, size, cells):
             if sum(cell in cells for cell in around) in (stay if (x, y) in cells else born):
                 living.append((x, y))
     return living
+
+
+def model_things(rule, size, many, move):
+    """All things in a box, by going through all its pictures."""
+    found = []
+    for cells in boxed(*size)[1:]:
+        turn = cells
+        for number in range(many):
+            turn = next_turn(rule, turn)
+        if turn == model_moved(cells, move):
+            found.append(cells)
+    return found
+
+
+def model_forms(rule, size, many, move):
+    """The forms of all things in a box, rising, each once."""
+    forms = {tuple(model_form(rule[0], cells)) for cells in model_things(rule, size, many, move)}
+    return [list(cells) for cells in sorted(forms)]
 
 
 class Case(unittest.TestCase):

@@ -5,20 +5,13 @@ import unittest
 from cellships.errors import Loud
 from cellships.ranges import first_unlike, is_between, range_of
 from tests.helper import (BLINKER, BLOCK, FAR, GLIDER, KINDS, LIFE, Case, boxed, model_count, model_moved,
-                          model_near, model_next, rows_of_counts)
+                          model_near, model_turns, rows_of_counts)
 
 RULES = (
     (4, (1,), (0, 1)), (4, (2, 3), (0, 4)), (4, (), (0, 1, 2, 3, 4)), (4, (1, 2, 3, 4), ()),
     (6, (2,), (3, 4)), (6, (), ()), (6, (1, 3, 5), (0, 2, 4, 6)), LIFE, (8, (2,), ()), (8, (3, 6), (0, 2, 3)),
 )
 PICTURES = ([], [(0, 0)], BLOCK, BLINKER, GLIDER, [(-2, 1), (-1, -1), (0, 0), (0, 1), (1, 3), (2, -2)])
-
-
-def model_turns(told, cells, many):
-    turns = [cells]
-    for turn in range(many):
-        turns.append(model_next(told, turns[-1]))
-    return turns
 
 
 def model_range(told, cells, many):

@@ -1,21 +1,14 @@
 """Rings (points 2, 3, 10 and 11)."""
 
-import fractions
 import itertools
 import unittest
 
 from cellships.errors import Folded, NoSize
 from cellships.rings import enough, ring_after, ring_moved, ring_next, wrapped
-from tests.helper import (BLINKER, BLOCK, FAR, GLIDER, KINDS, LIFE, MODEL_OFFSETS, MOST, ODD_THINGS, Case, boxed,
+from tests.helper import (BLINKER, BLOCK, FAR, GLIDER, KINDS, LIFE, MODEL_OFFSETS, MOST, NO_RING_SIZES, Case, boxed,
                           model_after, model_moved, model_ring_next)
 
 SIZES = ((3, 3), (3, 40), (40, 3), (40, 40), (4, 7), (5, 5))
-NO_SIZES = ODD_THINGS + (
-    0, 3, 40, (), (3,), (5, 5, 5), (40, 40, 40), [5, 5], [], [3], (2, 5), (5, 2), (41, 5), (5, 41), (2, 41),
-    (0, 5), (5, 0), (-3, 5), (5, -3), (-5, -5), (1, 1), (2, 2), (41, 41), (FAR, 5), (5, FAR), (MOST, -MOST),
-    (True, 5), (5, True), (False, 5), (5, False), (True, True), ("5", 5), (5, "5"), "55", "5,5", b"\x05\x05",
-    (None, 5), (5, None), (None, None), ([5], 5), (5, [5]), ((5, 5),), ((5, 5), 5), (5, (5,)), {5: 5, 6: 6},
-    {5, 6}, [(5, 5)], (5, {}), (set(), 5), (fractions.Fraction(5), 5), (5, fractions.Fraction(5)))
 RULES = (
     (4, (1,), (0, 1)), (4, (2, 3), (0, 4)), (6, (2,), (3, 4)), (6, (1, 6), (0,)), LIFE, (8, (2, 4, 7), (0, 1, 5)),
     (4, (0,), ()), (4, (0, 2), (1, 4)), (6, (0, 3), (0, 6)), (6, (0,), ()), (8, (0, 3), (2, 3)),
@@ -82,7 +75,7 @@ class NoSizeTest(Case):
 
     def test_of_anything(self):
         quiet, loud = LIFE, (8, (0, 3), (2,))
-        for size in NO_SIZES:
+        for size in NO_RING_SIZES:
             for cells in ([], [(0, 0)], BLOCK):
                 self.refuses(NoSize, wrapped, size, cells)
                 self.refuses(NoSize, ring_moved, size, cells, (0, 0))
@@ -93,7 +86,7 @@ class NoSizeTest(Case):
                         self.refuses(NoSize, ring_after, told, size, cells, many)
 
     def test_ahead_of_folded(self):
-        for size in NO_SIZES:
+        for size in NO_RING_SIZES:
             self.refuses(NoSize, wrapped, size, [(0, 0), (0, 5), (5, 0), (5, 5)])
             self.refuses(NoSize, wrapped, size, [(x, y) for x in range(0, 84, 2) for y in (0, 82)])
 
