@@ -7,11 +7,14 @@ def is_whole(thing):
     return isinstance(thing, int) and not isinstance(thing, bool)
 
 
+def is_pair(thing):
+    """Whether anything is a tuple of two whole numbers."""
+    return isinstance(thing, tuple) and len(thing) == 2 and is_whole(thing[0]) and is_whole(thing[1])
+
+
 def is_cell(thing):
     """Whether anything is a cell."""
-    if not isinstance(thing, tuple) or len(thing) != 2:
-        return False
-    return all([is_whole(number) and abs(number) < 10 ** 60 for number in thing])
+    return is_pair(thing) and abs(thing[0]) < 10 ** 60 and abs(thing[1]) < 10 ** 60
 
 
 def is_picture(thing):

@@ -1,6 +1,6 @@
 """Fathers: what becomes a picture in a box at the next turn, or a paper that nothing does."""
 
-from cellships.cells import is_whole, moved
+from cellships.cells import is_pair, moved
 from cellships.errors import NoSize, Outside
 from cellships.planes import counts
 from cellships.rows import centres, picture_of, rows_below, rows_of
@@ -13,11 +13,9 @@ MOST_CELLS = 9
 
 def is_father_size(thing):
     """Whether anything is the size of a box for which fathers are sought."""
-    if not isinstance(thing, tuple) or len(thing) != 2:
+    if not is_pair(thing):
         return False
     wide, high = thing
-    if not is_whole(wide) or not is_whole(high):
-        return False
     return 1 <= wide <= MOST_COLUMNS and 1 <= high <= MOST_ROWS and wide * high <= MOST_CELLS
 
 

@@ -1,6 +1,6 @@
 """Pictures that rest in a box, numbered in the order of their rows."""
 
-from cellships.cells import is_whole
+from cellships.cells import is_pair
 from cellships.errors import NoNumber, NoRest, NoSize
 from cellships.planes import next_turn
 from cellships.rows import centres, picture_of, rows_below, rows_of
@@ -12,11 +12,7 @@ MOST_ROWS = 60
 
 def is_rest_size(thing):
     """Whether anything is the size of a box whose resting pictures are numbered."""
-    if not isinstance(thing, tuple) or len(thing) != 2:
-        return False
-    if not is_whole(thing[0]) or not is_whole(thing[1]):
-        return False
-    return 1 <= thing[0] <= MOST_COLUMNS and 1 <= thing[1] <= MOST_ROWS
+    return is_pair(thing) and 1 <= thing[0] <= MOST_COLUMNS and 1 <= thing[1] <= MOST_ROWS
 
 
 def refuse_no_rests(rule, size):

@@ -1,6 +1,6 @@
 """Rings: worlds where beyond an end one comes in at the other."""
 
-from cellships.cells import box_of, is_whole
+from cellships.cells import box_of, is_pair
 from cellships.errors import Folded, NoSize
 from cellships.forms import offsets
 from cellships.planes import living_next
@@ -8,9 +8,7 @@ from cellships.planes import living_next
 
 def is_ring_size(thing):
     """Whether anything is the size of a ring."""
-    if not isinstance(thing, tuple) or len(thing) != 2:
-        return False
-    return all([is_whole(side) and 3 <= side <= 40 for side in thing])
+    return is_pair(thing) and 3 <= thing[0] <= 40 and 3 <= thing[1] <= 40
 
 
 def refuse_no_ring(size):

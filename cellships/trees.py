@@ -1,6 +1,6 @@
 """Trees of tries: papers that no thing in a box is left out."""
 
-from cellships.cells import is_cell, is_whole, moved
+from cellships.cells import is_cell, is_pair, moved
 from cellships.errors import NoSize
 from cellships.forms import form
 from cellships.maybes import maybe_after, state_of
@@ -31,11 +31,7 @@ def is_tree(thing):
 
 def is_box_size(thing):
     """Whether anything is the size of a box in which things are sought."""
-    if not isinstance(thing, tuple) or len(thing) != 2:
-        return False
-    if not all([is_whole(side) and side >= 1 for side in thing]):
-        return False
-    return thing[0] * thing[1] <= MOST_CELLS
+    return is_pair(thing) and thing[0] >= 1 and thing[1] >= 1 and thing[0] * thing[1] <= MOST_CELLS
 
 
 def refuse_no_box(size):

@@ -110,6 +110,11 @@ def model_count(kind, cells, cell):
     return sum((cell[0] + dx, cell[1] + dy) in cells for dx, dy in MODEL_OFFSETS[kind])
 
 
+def model_hang(kind, cells):
+    """All cells that hang on some of these."""
+    return {(x + dx, y + dy) for x, y in cells for dx, dy in MODEL_OFFSETS[kind] + [(0, 0)]}
+
+
 def model_near(cells):
     """All cells at most one away from a living one, either way."""
     return sorted({(x + dx, y + dy) for x, y in cells for dx in (-1, 0, 1) for dy in (-1, 0, 1)})
@@ -169,6 +174,11 @@ def model_forms(rule, size, many, move):
     """The forms of all things in a box, rising, each once."""
     forms = {tuple(model_form(rule[0], cells)) for cells in model_things(rule, size, many, move)}
     return [list(cells) for cells in sorted(forms)]
+
+
+def put(*pictures):
+    """The picture of all cells of some pictures."""
+    return sorted({cell for cells in pictures for cell in cells})
 
 
 class Case(unittest.TestCase):

@@ -266,7 +266,7 @@ class FatherTest(Case):
         for told in RULES:
             for size in SIZES:
                 pictures = boxed(*size)
-                for cells in pictures[::len(pictures) // 3 + 1] + pictures[-1:]:
+                for cells in pictures[1::len(pictures) // 2 + 1] + pictures[-1:]:
                     words.append(self.holds(told, size, cells))
         self.assertEqual(set(words), {"father", "none"})
 
@@ -284,7 +284,7 @@ class FatherTest(Case):
         for told in RULES:
             for size in SIZES:
                 around = rim_cells(size)
-                for step in (1, 3, 7):
+                for step in (1, 7):
                     other = [cell for at, cell in enumerate(around) if at * at * step % 13 < 6]
                     self.assertEqual(self.holds(told, size, model_shows(told, size, other)), "father")
 

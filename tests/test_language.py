@@ -161,6 +161,14 @@ class LanguageTest(unittest.TestCase):
                     own = re.search(rf"(?m)^    def {node.func.attr}\b", text)
                     self.assertTrue(own or node.func.attr in METHODS, node.func.attr)
 
+    def test_what_is_walked_at_once_is_not_kept(self):
+        for path, text, tree in self.trees():
+            for node in ast.walk(tree):
+                if isinstance(node, (ast.Assign, ast.Return)) and isinstance(node.value, ast.Call):
+                    called = node.value.func
+                    name = called.id if isinstance(called, ast.Name) else called.attr
+                    self.assertNotIn(name, ("range", "zip", "enumerate", "reversed", "items", "keys", "values", "set"))
+
     def test_the_top_of_a_file(self):
         for path, text, tree in self.trees():
             self.assertTrue(ast.get_docstring(tree))

@@ -5,18 +5,14 @@ import unittest
 
 from cellships.errors import Loud
 from cellships.parts import hangs_on, holds_parts, parts
-from tests.helper import (BLINKER, BLOCK, FAR, GLIDER, KINDS, LIFE, MODEL_OFFSETS, MOST, Case, boxed, kinds,
-                          model_moved, model_next, model_turns)
+from tests.helper import (BLINKER, BLOCK, FAR, GLIDER, KINDS, LIFE, MOST, Case, boxed, kinds, model_hang, model_moved,
+                          model_next, model_turns, put)
 
 LOUD_RULES = tuple((kind, born, stay) for kind in KINDS for born in ((0,), (0, 3)) for stay in ((), (2,)))
 RULES = (
     LIFE, (8, (2,), ()), (8, (), (0, 1, 2)), (8, (3,), tuple(range(9))), (6, (2,), (3, 4)), (6, (2, 4), (0, 1)),
     (4, (1, 3), (1, 3)), (4, (2,), (0, 1, 2)), (4, (), ()), (4, (1,), ()),
 )
-
-
-def put(*pictures):
-    return sorted({cell for cells in pictures for cell in cells})
 
 
 # Heaps of cells that touch at once, later, or never.
@@ -36,11 +32,6 @@ SMALL = (
     [(-3, 0), (0, 0), (0, 3), (3, 3), (FAR, 0)], [(0, 0), (0, 1), (1, 0), (4, 4), (4, 5), (5, 4)],
     [(0, 0), (1, 0), (2, 0), (4, 0), (5, 0), (6, 0)],
 )
-
-
-def model_hang(kind, cells):
-    """All cells that hang on some of these."""
-    return {(x + dx, y + dy) for x, y in cells for dx, dy in MODEL_OFFSETS[kind] + [(0, 0)]}
 
 
 def go_apart(told, pictures, many):
